@@ -1,0 +1,1 @@
+"""What protocols that wait until enough members have said something can do."""
