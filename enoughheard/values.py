@@ -9,9 +9,19 @@ def is_whole(value, least, most):
     return least <= value and value <= most
 
 
+def is_amount(value):
+    """Whether value is an integer from 0 on."""
+    return isinstance(value, int) and not isinstance(value, bool) and value >= 0
+
+
 def is_tuple(value, least, most):
     """Whether value is a plain tuple of least to most parts."""
     return type(value) == tuple and least <= len(value) and len(value) <= most
+
+
+def are_amounts(value, many):
+    """Whether value is a tuple of so many integers from 0 on."""
+    return is_tuple(value, many, many) and all([is_amount(part) for part in value])
 
 
 def is_ascending(parts):

@@ -2,6 +2,14 @@
 
 BIG = 123456789012345678901234567890
 NO_INTEGERS = (None, True, False, "0", 1.0, (), (1,), [], [1], {})
+NO_TUPLES = (None, 0, 1, True, False, "", "rules", [], [0], {}, {0: 1})
+
+LOW = (0, (0, 1, 1))
+HIGH = (0, (1, -1, 0))
+# The broadcast of the document's examples.
+BROADCAST = (4, 1, (0, 1), ((1, 2, (), (0,)), (0, 2, (LOW,), (0,)), (0, 3, (HIGH,), (0,)),
+                            (2, 3, (HIGH,), ())))
+THIRD = ((1, -3, 0, 1), (0, 1, -1, 0))
 
 
 def deep(levels):
@@ -15,3 +23,10 @@ def deep(levels):
 def put(whole, at, part):
     """The tuple with another part at its place."""
     return whole[:at] + (part,) + whole[at + 1:]
+
+
+def is_plain(value):
+    """Whether a value is built of plain tuples, integers, booleans, strings and None alone."""
+    if type(value) is tuple:
+        return all(is_plain(part) for part in value)
+    return value is None or type(value) in (int, bool, str)

@@ -91,7 +91,8 @@ class Language(unittest.TestCase):
                     self.assertNotIsInstance(node.value, (float, complex), name)
 
     def test_builtins(self):
-        every = dir(builtins)
+        # doctest leaves what it evaluated last in builtins as _.
+        every = set(dir(builtins)) - {"_"}
         for name, _, tree in each_file():
             for node in ast.walk(tree):
                 if isinstance(node, ast.Name) and node.id in every:
@@ -99,6 +100,25 @@ class Language(unittest.TestCase):
                     self.assertIsInstance(node.ctx, ast.Load, name)
                 if isinstance(node, ast.arg):
                     self.assertNotIn(node.arg, every, name)
+
+    def test_no_variable_has_the_name_of_an_import_or_a_class(self):
+        for name, _, tree in each_file():
+            taken = {alias.name for node in tree.body if isinstance(node, ast.ImportFrom)
+                     for alias in node.names}
+            taken |= {node.name for node in tree.body if isinstance(node, ast.ClassDef)}
+            for node in ast.walk(tree):
+                if isinstance(node, ast.Name) and not isinstance(node.ctx, ast.Load):
+                    self.assertNotIn(node.id, taken, name)
+                if isinstance(node, ast.arg):
+                    self.assertNotIn(node.arg, taken, name)
+
+    def test_attributes_have_names_of_their_own(self):
+        barred = ("items keys values pop update append clear extend insert remove reverse "
+                  "setdefault sort args encode decode hex fromhex format").split()
+        for name, _, tree in each_file():
+            for node in ast.walk(tree):
+                if isinstance(node, ast.Attribute) and isinstance(node.ctx, ast.Store):
+                    self.assertNotIn(node.attr, barred, name)
 
     def test_barred_words(self):
         for name, _, tree in each_file():

@@ -6,13 +6,9 @@ import unittest
 
 from enoughheard.errors import InvalidProtocol
 from enoughheard.protocols import conditions_of, require_protocol
-from tests.helpers import BIG, NO_INTEGERS, deep, put
+from tests.helpers import BIG, BROADCAST, HIGH, LOW, NO_INTEGERS, NO_TUPLES, deep, put
 
-LOW = (0, (0, 1, 1))
-HIGH = (0, (1, -1, 0))
-EXAMPLE = (4, 1, (0, 1), ((1, 2, (), (0,)), (0, 2, (LOW,), (0,)), (0, 3, (HIGH,), (0,)),
-                          (2, 3, (HIGH,), ())))
-NO_TUPLES = (None, 0, 1, True, False, "", "rules", [], [0], {}, {0: 1})
+EXAMPLE = BROADCAST
 
 
 def with_rules(*rules):
