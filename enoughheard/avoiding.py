@@ -1,7 +1,6 @@
 """Stage 9: whether by no numbers that fit a run leads into a situation."""
 
-from enoughheard.searching import Search
-from enoughheard.tableaus import Tableau
+from enoughheard.searching import answered
 
 
 def avoids(protocol, resilience, empty, situation, *, tries=1200):
@@ -11,12 +10,9 @@ def avoids(protocol, resilience, empty, situation, *, tries=1200):
 
 def coming_to(protocol, resilience, empty, situation, *, tries=1200):
     """(numbers, firsts, run) of a run into the situation, or None."""
-    search = Search(protocol, resilience, empty, situation, tries)
-    search.node(Tableau(), ())
-    return search.found
+    return answered(("avoids", protocol, resilience, empty, situation), tries)[1]
 
 
 def avoiding_tree(protocol, resilience, empty, situation, *, tries=1200):
     """A tree that shows that they avoid the situation, or None."""
-    search = Search(protocol, resilience, empty, situation, tries)
-    return search.node(Tableau(), ())
+    return answered(("avoids", protocol, resilience, empty, situation), tries)[0]

@@ -16,11 +16,11 @@ def behind_pair(protocol, crowd, pair):
     index, times = pair
     source, target, _, sends = protocol[3][index]
     counts = list(crowd[0])
-    counts[source] -= times
-    counts[target] += times
+    counts[source] = counts[source] - times
+    counts[target] = counts[target] + times
     said = list(crowd[1])
     for kind in sends:
-        said[kind] += times
+        said[kind] = said[kind] + times
     return tuple(counts), tuple(said)
 
 

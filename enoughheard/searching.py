@@ -1,16 +1,31 @@
 """The search through the tree of orders."""
 
 from enoughheard.errors import LimitExceeded
+from enoughheard.nodes import conditions_left, own_rows
 from enoughheard.orders import columns
-from enoughheard.protocols import conditions_of
 from enoughheard.systems import next_row, run_of, situation_rows, system
 from enoughheard.tableaus import Tableau
 
 
-class Search:
-    """A search for a run into a situation, through the orders from () on."""
+def with_rows(tableau, rows):
+    """The tableau with more rows, settled."""
+    longer = tableau.copied()
+    for row in rows:
+        longer.add_row(row)
+    longer.settle()
+    return longer
 
-    def __init__(self, protocol, resilience, empty, situation, tries):
+
+class Search:
+    """A search for a run that answers a question with no, through the orders from () on.
+
+    A question is (word, protocol, resilience, empty, situation), as in the claims
+    that begin with "avoids" and "ends".
+    """
+
+    def __init__(self, question, tries):
+        word, protocol, resilience, empty, situation = question
+        self.word = word
         self.protocol = protocol
         self.resilience = resilience
         self.empty = empty
@@ -20,15 +35,11 @@ class Search:
         self.found = None
 
     def look(self, tableau, rows):
-        """The tableau with more rows, settled."""
+        """The tableau with more rows, settled; it is counted as a look."""
         if self.looks == self.tries:
             raise LimitExceeded(self.tries)
-        self.looks += 1
-        looked = tableau.copied()
-        for row in rows:
-            looked.add_row(row)
-        looked.settle()
-        return looked
+        self.looks = self.looks + 1
+        return with_rows(tableau, rows)
 
     def grow(self, tableau, order):
         """Makes of the first rows of an order's system all of them."""
@@ -37,28 +48,38 @@ class Search:
             tableau.add_row(row)
         tableau.settle()
 
+    def own_weights(self, tableau, order):
+        """The weights for a node's own systems, or None once a run is found."""
+        inside = with_rows(tableau, situation_rows(self.protocol, order, self.situation))
+        found = []
+        for rows in own_rows(self.word, self.protocol, order):
+            own = self.look(inside, rows)
+            if own.clash is None:
+                self.found = run_of(self.protocol, order, own.numbers())
+                return None
+            found.append(own.weights())
+        return found[0] if self.word == "avoids" else tuple(found)
+
     def node(self, tableau, order):
-        """The node of an order, or None once a run into the situation is found.
+        """The node of an order, or None once a run is found.
 
         The tableau has the rows with which the system of the order begins: those
         of the order without its last condition and the next row for this one.
         """
         self.grow(tableau, order)
-        own = self.look(tableau, situation_rows(self.protocol, order, self.situation))
-        if own.clash is None:
-            self.found = run_of(self.protocol, order, own.numbers())
+        weights = self.own_weights(tableau, order)
+        if weights is None:
             return None
         branches = []
-        for condition in conditions_of(self.protocol):
-            if condition not in order:
-                branch = self.branch(tableau, order, condition)
-                if branch is None:
-                    return None
-                branches.append(branch)
-        return own.weights(), tuple(branches)
+        for condition in conditions_left(self.protocol, order):
+            branch = self.branch(tableau, order, condition)
+            if branch is None:
+                return None
+            branches.append(branch)
+        return weights, tuple(branches)
 
     def branch(self, tableau, order, condition):
-        """The branch for a condition, or None once a run into the situation is found."""
+        """The branch for a condition, or None once a run is found."""
         after = self.look(tableau, (next_row(self.protocol, order, condition),))
         if after.clash is not None:
             return "barred", after.weights()
@@ -66,3 +87,9 @@ class Search:
         if node is None:
             return None
         return "open", node
+
+
+def answered(question, tries):
+    """(tree, None) if it is so, else (None, (numbers, firsts, run))."""
+    search = Search(question, tries)
+    return search.node(Tableau(), ()), search.found

@@ -78,7 +78,7 @@ class Tableau:
         self.held.append(OWN - 1 - self.many)
         self.scales.append(scale)
         self.lines.append(line)
-        self.many += 1
+        self.many = self.many + 1
 
     def settle(self, patience=PATIENCE):
         """Exchanges amounts until none is below 0 or a line shows a contradiction."""

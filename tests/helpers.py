@@ -30,3 +30,24 @@ def is_plain(value):
     if type(value) is tuple:
         return all(is_plain(part) for part in value)
     return value is None or type(value) in (int, bool, str)
+
+
+ODD = (None, True, False, 0.5, -10, BIG, "", "odd", (), (0,), (True, None), [], [0], [[1], {}], {},
+       {"a": [1]}, {0: ()}, deep(3000))
+
+
+def is_odd_in(value, place):
+    """Whether a value differs, in its kind too, from what stands at a place."""
+    return type(value) is not type(place) or (type(value) is not tuple and value != place)
+
+
+def replaced(whole, odd=ODD):
+    """The tuple with each of its parts, at any depth, replaced by values of other kinds."""
+    for value in odd:
+        if is_odd_in(value, whole):
+            yield value
+    if type(whole) is tuple:
+        yield list(whole)
+        for at, part in enumerate(whole):
+            for other in replaced(part, odd):
+                yield put(whole, at, other)

@@ -90,14 +90,25 @@ def in_situation(situation, numbers, crowd):
     return True
 
 
+def urges(protocol, numbers, crowd):
+    """The rules with somebody in the source who hears all that is asked without liars."""
+    return [index for index, rule in enumerate(protocol[3]) if crowd[0][rule[0]]
+            and all(heard(numbers, crowd, one, 0) for one in rule[2])]
+
+
 def comes_into(protocol, resilience, empty, situation, most):
-    """Whether by numbers with at most so many members some run leads into the situation."""
+    """Whether by numbers with at most so many members some run leads into the situation, and
+    whether one leads to an end in it."""
+    comes = ends = False
     for numbers in small_numbers(resilience, most):
         for firsts in all_firsts(protocol, numbers, empty):
             for crowd in reachable(protocol, numbers, first(protocol, firsts)):
                 if in_situation(situation, numbers, crowd):
-                    return True
-    return False
+                    comes = True
+                    ends = ends or not urges(protocol, numbers, crowd)
+                if ends:
+                    return True, True
+    return comes, ends
 
 
 # Rows: each is worked out as a number, with 1 in one column and 0 in the others.
@@ -200,6 +211,37 @@ def weighs(rows, weights):
     return max(sums) <= 0 and sum(row[1] * weight for row, weight in zip(rows, weights)) > 0
 
 
+# Options and choices.
+
+def all_choices(options):
+    """All choices of the options, in their order."""
+    found = []
+    for many in range(len(options) + 1):
+        for choice in itertools.combinations(range(len(options)), many):
+            places = [tuple(options[at][0:2]) for at in choice]
+            if not any(one == other for one, other in itertools.combinations(places, 2)):
+                found.append((sum(options[at][-1] for at in choice), choice))
+    return [choice for _, choice in sorted(found)]
+
+
+def changed(protocol, options, choice):
+    """The protocol with a choice, condition by condition and rule by rule."""
+    rules = []
+    for index, (source, target, asked, sends) in enumerate(protocol[3]):
+        if any(options[at][:2] == ("drop", index) for at in choice):
+            continue
+        put = []
+        for kind, bound in asked:
+            for at in choice:
+                if options[at][:2] == ("bound", (kind, bound)):
+                    put.append((kind, options[at][2]))
+                    break
+            else:
+                put.append((kind, bound))
+        rules.append((source, target, tuple(sorted(set(put))), sends))
+    return protocol[:3] + (tuple(rules),)
+
+
 # Protocols and runs drawn by a seed.
 
 def drawn_protocol(seed, many_conditions):
@@ -249,3 +291,16 @@ def drawn_cases(many):
         firsts = draw.choice(list(all_firsts(protocol, numbers, ())))
         run = drawn_run(draw, protocol, numbers, first(protocol, firsts), draw.randint(0, 9))
         yield protocol, numbers, firsts, run
+
+
+def drawn_options(draw, protocol):
+    """One to three options, some of them equal, of the same cost or free."""
+    known = conditions(protocol)
+    options = []
+    for _ in range(draw.randint(1, 3)):
+        cost = draw.choice((0, 0, 1, 1, 2, 3, 99))
+        if known and draw.random() < 0.6:
+            options.append(("bound", draw.choice(known), draw.choice(BOUNDS), cost))
+        else:
+            options.append(("drop", draw.randrange(len(protocol[3])), cost))
+    return tuple(options)

@@ -1,148 +1,17 @@
 """Points 3 (the first guarantee, for avoids) and 13, and the limits: avoiding."""
 
-import random
 import unittest
 
 from enoughheard.avoiding import avoiding_tree, avoids, coming_to
-from enoughheard.errors import LimitExceeded
 from enoughheard.situations import occupied
-from enoughheard.solving import solved
 from tests import own
-from tests.helpers import BROADCAST, THIRD, is_plain
-
-NONE_FIT = (((0, 0, 0, 1),), ((-1, 0, 0, 1),), ((1, -1, 0, 1), (-1, 1, 0, 0)))
-NOTHING = ((0, 0, 0, 0),)
-# What it waits for is heard at once, in all orders; nobody comes to location 1.
-ALWAYS = tuple((0, bound) for bound in ((-1, -1, 0), (-1, 0, 0), (0, -1, 0), (0, 0, 0)))
-IDLE = (3, 1, (0,), tuple((0, 2, (one,), ()) for one in ALWAYS))
+from tests.asking import IDLE, NONE_FIT, Asking, drawn_questions
+from tests.helpers import BROADCAST, THIRD
 
 
-def system_rows(protocol, resilience, empty, order, more):
-    sums = own.system_sums(protocol, resilience, empty, order) + more
-    return own.as_rows(protocol, order, sums)
-
-
-def left(protocol, order):
-    return [one for one in own.conditions(protocol) if one not in order]
-
-
-def looks_at(protocol, resilience, empty, situation, order=()):
-    """How many systems the search looks at from this order on, and whether it ends there."""
-    rows = system_rows(protocol, resilience, empty, order,
-                       own.situation_sums(protocol, order, situation))
-    if solved(rows)[0] == "numbers":
-        return 1, True
-    looks = 1
-    for condition in left(protocol, order):
-        rows = system_rows(protocol, resilience, empty, order,
-                           [own.hearing(protocol, condition, len(order))])
-        looks = looks + 1
-        if solved(rows)[0] == "numbers":
-            more, ends = looks_at(protocol, resilience, empty, situation, order + (condition,))
-            looks = looks + more
-            if ends:
-                return looks, True
-    return looks, False
-
-
-def drawn_situation(draw, protocol):
-    """Locations occupied together, more than half in one, or rows of any kind."""
-    many, kinds = protocol[:2]
-    kind = draw.randint(0, 3)
-    if kind < 2:
-        places = sorted(draw.sample(range(many), draw.randint(1, min(many, kind + 1))))
-        return tuple((tuple(int(at == place) for at in range(many)), (0,) * kinds, (0, 0, 0), 1)
-                     for place in places)
-    if kind == 2:
-        place = draw.randrange(many)
-        return ((tuple(2 * int(at == place) for at in range(many)), (0,) * kinds, (-1, 0, 0), 1),)
-    return tuple((tuple(draw.randint(-3, 2) for _ in range(many)),
-                  tuple(draw.randint(-3, 3) for _ in range(kinds)),
-                  tuple(draw.randint(-2, 1) for _ in range(3)), draw.randint(0, 9))
-                 for _ in range(draw.randint(1, 4)))
-
-
-def drawn_questions(many):
-    """So many (protocol, resilience, empty, situation)."""
-    resiliences = (THIRD, THIRD + ((1, 0, 0, 4),), ((1, -2, 0, 1), (0, 1, -1, 0)), NOTHING,
-                   ((0, 1, -1, 0),), ((1, -3, 0, 1),), NONE_FIT[2])
-    for seed in range(many):
-        draw = random.Random(seed)
-        protocol = own.drawn_protocol(seed, seed % 5)
-        starts = protocol[2]
-        empty = tuple(sorted(draw.sample(starts, draw.randint(0, len(starts) - 1))))
-        yield protocol, draw.choice(resiliences), empty, drawn_situation(draw, protocol)
-
-
-class Avoiding(unittest.TestCase):
-    def assert_run(self, question, found):
-        """A run into the situation, by steps of the test's own."""
-        protocol, resilience, empty, situation = question
-        self.assertTrue(is_plain(found))
-        numbers, firsts, run = found
-        self.assertEqual(len(numbers), 3)
-        self.assertTrue(own.fit(resilience, numbers))
-        self.assertEqual(len(firsts), protocol[0])
-        for location, count in enumerate(firsts):
-            may = location in protocol[2] and location not in empty
-            self.assertTrue(count == 0 or count > 0 and may)
-        self.assertEqual(sum(firsts), numbers[0] - numbers[2])
-        self.assertTrue(all(times >= 1 for _, times in run))
-        self.assertLessEqual(len(run), 200)
-        crowds = own.behind(protocol, numbers, own.first(protocol, firsts), run)
-        self.assertEqual(len(crowds), len(run) + 1)
-        self.assertTrue(own.in_situation(situation, numbers, crowds[-1]))
-
-    def assert_tree(self, question, node, order=()):
-        """A right node of this order; returns how many systems the tree is about."""
-        protocol, resilience, empty, situation = question
-        self.assertTrue(is_plain(node))
-        weights, branches = node
-        rows = system_rows(protocol, resilience, empty, order,
-                           own.situation_sums(protocol, order, situation))
-        self.assertTrue(own.weighs(rows, weights))
-        self.assertEqual(len(branches), len(left(protocol, order)))
-        count = 1
-        for condition, (word, below) in zip(left(protocol, order), branches):
-            count = count + 1
-            if word == "open":
-                count = count + self.assert_tree(question, below, order + (condition,))
-            else:
-                self.assertEqual(word, "barred")
-                rows = system_rows(protocol, resilience, empty, order,
-                                   [own.hearing(protocol, condition, len(order))])
-                self.assertTrue(own.weighs(rows, below))
-        return count
-
-    def assert_answer(self, question, avoided=None):
-        """All three answer, alike each time, and rightly; the limit is the told one."""
-        told = avoids(*question)
-        found = coming_to(*question)
-        tree = avoiding_tree(*question)
-        self.assertIs(told, found is None)
-        self.assertIs(told, tree is not None)
-        self.assertEqual(found, coming_to(*question))
-        self.assertEqual(tree, avoiding_tree(*question))
-        if avoided is not None:
-            self.assertIs(told, avoided)
-        looks, ends = looks_at(*question)
-        self.assertIs(told, not ends)
-        if told:
-            self.assertEqual(self.assert_tree(question, tree), looks)
-        else:
-            self.assert_run(question, found)
-        self.assert_limit(question, looks)
-
-    def assert_limit(self, question, looks):
-        for function in (avoids, coming_to, avoiding_tree):
-            right = function(*question)
-            for tries in (looks, looks + 1, 5000):
-                self.assertEqual(function(*question, tries=tries), right)
-            for tries in {1, looks // 2, looks - 1} - {0}:
-                if tries < looks:
-                    with self.assertRaises(LimitExceeded) as caught:
-                        function(*question, tries=tries)
-                    self.assertEqual(caught.exception.limit, tries)
+class Avoiding(Asking):
+    word = "avoids"
+    functions = (avoids, coming_to, avoiding_tree)
 
 
 class Broadcast(Avoiding):
@@ -266,7 +135,7 @@ class Drawn(Avoiding):
     def test_small_crowds_by_trying_all_runs(self):
         comes = 0
         for question in drawn_questions(120):
-            if own.comes_into(*question, 3):
+            if own.comes_into(*question, 3)[0]:
                 comes = comes + 1
                 self.assertIs(avoids(*question), False)
         self.assertGreater(comes, 20)

@@ -78,8 +78,50 @@ class Language(unittest.TestCase):
                     file = PACKAGE.parent.joinpath(*node.module.split(".")).with_suffix(".py")
                     rows = ast.parse(file.read_text()).body
                     defined = [getattr(row, "name", None) for row in rows]
+                    defined += [row.targets[0].id for row in rows if isinstance(row, ast.Assign)]
                     for alias in node.names:
                         self.assertIn(alias.name, defined, name)
+
+    def test_no_two_files_import_from_each_other(self):
+        asks = {name: {node.module.split(".")[-1] + ".py" for node in tree.body
+                       if isinstance(node, ast.ImportFrom) and node.module not in LIBRARY}
+                for name, _, tree in each_file()}
+        while asks:
+            free = [name for name in asks if not asks[name] & set(asks)]
+            self.assertTrue(free, sorted(asks))
+            for name in free:
+                del asks[name]
+
+    def test_what_is_barred_beside_a_class_with_operators(self):
+        for name, _, tree in each_file():
+            for node in ast.walk(tree):
+                self.assertNotIsInstance(node, ast.GeneratorExp, name)
+                if isinstance(node, ast.AugAssign):
+                    self.assertIsInstance(node.target, ast.Name, name)
+                    self.assertIsInstance(node.value, ast.Constant, name)
+                    self.assertIs(type(node.value.value), int, name)
+                if isinstance(node, ast.Call) and isinstance(node.func, ast.Attribute):
+                    self.assertNotEqual(node.func.attr, "sort", name)
+
+    def test_no_name_is_a_method_and_an_attribute(self):
+        methods, attributes = set(), set()
+        for _, _, tree in each_file():
+            for node in ast.walk(tree):
+                if isinstance(node, ast.ClassDef):
+                    methods |= {row.name for row in node.body if isinstance(row, ast.FunctionDef)}
+                if isinstance(node, ast.Attribute) and isinstance(node.ctx, ast.Store):
+                    attributes.add(node.attr)
+        self.assertEqual(methods & attributes, set())
+
+    def test_the_interfaces_generator_is_the_only_one(self):
+        found = [node.name for _, _, tree in each_file() for node in ast.walk(tree)
+                 if isinstance(node, ast.FunctionDef)
+                 and any(isinstance(part, (ast.Yield, ast.YieldFrom)) for part in ast.walk(node))]
+        self.assertEqual(found, ["choices"])
+        for name, _, tree in each_file():
+            for node in ast.walk(tree):
+                if isinstance(node, ast.Name) and not isinstance(node.ctx, ast.Load):
+                    self.assertNotEqual(node.id, "choices", name)
 
     def test_statements_and_values(self):
         for name, _, tree in each_file():
