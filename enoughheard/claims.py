@@ -3,7 +3,7 @@
 from enoughheard.errors import (InvalidClaim, InvalidOptions, InvalidProtocol, InvalidResilience,
                                 InvalidSituation)
 from enoughheard.least import MOST_FACTOR, factor_answers
-from enoughheard.mends import cost_of, mend_answers, require_options
+from enoughheard.mends import all_fulfilled, cost_of, mend_answers, require_options
 from enoughheard.numbers import require_resilience
 from enoughheard.protocols import require_protocol
 from enoughheard.searching import answered
@@ -109,9 +109,9 @@ def decided_mend(claim, tries):
     _, protocol, resilience, wishes, options, cost = claim
     answers = mend_answers(protocol, resilience, wishes, options, tries)
     breaks = [(cost_of(options, choice), (len(found) - 1, found[-1][1]))
-              for choice, found in answers if found[-1][0] is None]
+              for choice, found in answers if not all_fulfilled(found)]
     choice, found = answers[-1]
-    mends = found[-1][0] is not None
+    mends = all_fulfilled(found)
     if cost is None and not mends:
         return "shown", tuple([broken for _, broken in breaks])
     if not mends or (cost is not None and cost < cost_of(options, choice)):

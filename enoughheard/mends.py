@@ -83,6 +83,11 @@ def wish_answers(protocol, resilience, wishes, tries):
     return found
 
 
+def all_fulfilled(answers):
+    """Whether none of the wishes that were answered is left unfulfilled."""
+    return all([tree is not None for tree, _ in answers])
+
+
 def mend_answers(protocol, resilience, wishes, options, tries):
     """For each choice, up to the first that mends, the choice and what is answered with it."""
     found = []
@@ -90,7 +95,7 @@ def mend_answers(protocol, resilience, wishes, options, tries):
         changed = with_choice(protocol, options, choice)
         answers = wish_answers(changed, resilience, wishes, tries)
         found.append((choice, answers))
-        if answers[-1][0] is not None:
+        if all_fulfilled(answers):
             return found
     return found
 
@@ -98,6 +103,4 @@ def mend_answers(protocol, resilience, wishes, options, tries):
 def cheapest_mend(protocol, resilience, wishes, options, *, tries=1200):
     """The first choice that mends, or None."""
     choice, answers = mend_answers(protocol, resilience, wishes, options, tries)[-1]
-    if answers[-1][0] is None:
-        return None
-    return choice
+    return choice if all_fulfilled(answers) else None

@@ -149,6 +149,13 @@ class Form(Checking):
             if type(value) is not tuple or value[-1] is not None:
                 self.assertEqual(first_fault(("shown", value, ())), ("claim",))
 
+    def test_a_mend_with_no_wishes_is_no_claim(self):
+        for cost in (0, 1, None):
+            claim = ("mend", BROADCAST, THIRD, (), (("drop", 0, 1),), cost)
+            for verdict, paper in (("shown", ((), (), ())), ("broken", ("less", (), ())),
+                                   ("shown", ()), ("broken", ("more", ()))):
+                self.assert_fault((verdict, claim, paper), ("claim",))
+
     def test_other_verdicts(self):
         for _, claim, _ in ROWS:
             paper = decide(claim)[2]

@@ -11,7 +11,7 @@ from enoughheard.mends import cheapest_mend, choices, require_options, with_choi
 from enoughheard.protocols import require_protocol
 from enoughheard.situations import occupied
 from tests import own
-from tests.asking import drawn_questions, looks_at
+from tests.asking import NONE_FIT, drawn_questions, looks_at
 from tests.helpers import BIG, BROADCAST, HIGH, LOW, NO_INTEGERS, NO_TUPLES, THIRD, put, replaced
 
 LOWER = ("bound", LOW, (0, 1, 0), 1)
@@ -230,6 +230,14 @@ class Mends(unittest.TestCase):
         self.assertEqual(question, before)
         return told, looks
 
+    def assert_unsearched(self, question):
+        """The first choice mends; nothing is searched, so no limit is exceeded."""
+        before = copy.deepcopy(question)
+        self.assertEqual(cheapest_mend(*question), ())
+        for tries in (5000, 1, 0, -1):
+            self.assertEqual(cheapest_mend(*question, tries=tries), ())
+        self.assertEqual(question, before)
+
     def test_one_wish(self):
         right = ("bound", (0, (0, 1, 0)), (0, 1, 1), 2)
         self.assert_mend((WEAK, THIRD, (UNFORGED,), (("drop", 1, 9), right)), (1,))
@@ -284,6 +292,21 @@ class Mends(unittest.TestCase):
                              (0, 1, (), ())))
         options = (("drop", 2, 1), ("bound", (0, (-1, 0, 0)), (3, 3, 1), 0))
         self.assert_mend((idle, THIRD, (("avoids", (), occupied(idle, (1,))),), options), (0,))
+
+    def test_no_wishes(self):
+        free = (("drop", 0, 0), ("drop", 0, 0))
+        for options in (free, (("drop", 1, 4),), (LOWER, HIGHER, NONE)):
+            for resilience in (THIRD,) + NONE_FIT:
+                self.assert_unsearched((BROADCAST, resilience, (), options))
+        for seed in range(40):
+            protocol = own.drawn_protocol(seed, seed % 5)
+            options = own.drawn_options(random.Random(seed), protocol)
+            self.assert_unsearched((protocol, THIRD, (), options))
+
+    def test_more_wishes_than_three(self):
+        right = ("bound", (0, (0, 1, 0)), (0, 1, 1), 2)
+        wishes = (TOGETHER,) * 4 + (UNFORGED,)
+        self.assert_mend((WEAK, THIRD, wishes, (("drop", 2, 1), right)), (1,))
 
     def test_drawn_mends(self):
         found = []
