@@ -36,7 +36,7 @@ class Search:
 
     def look(self, tableau, rows):
         """The tableau with more rows, settled; it is counted as a look."""
-        if self.looks == self.tries:
+        if self.looks >= self.tries:
             raise LimitExceeded(self.tries)
         self.looks = self.looks + 1
         return with_rows(tableau, rows)

@@ -167,7 +167,7 @@ class Asking(unittest.TestCase):
             right = function(*question)
             for tries in (looks, looks + 1, 5000):
                 self.assertEqual(function(*question, tries=tries), right)
-            for tries in {1, looks // 2, looks - 1} - {0}:
+            for tries in sorted({-5000, -1, 0, 1, looks // 2, looks - 1}):
                 if tries < looks:
                     with self.assertRaises(LimitExceeded) as caught:
                         function(*question, tries=tries)

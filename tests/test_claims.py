@@ -221,12 +221,14 @@ class Decide(unittest.TestCase):
         claims = [claim for _, claim, _ in ROWS] + list(drawn_claims(24))
         for claim in claims:
             right = decide(claim)
-            least = 1
+            least = -2
             while exceeds(inner, claim, least):
                 with self.assertRaises(LimitExceeded) as caught:
                     decide(claim, tries=least)
                 self.assertEqual(caught.exception.limit, least)
                 least = least + 1
+            # At least one system is looked at for each claim.
+            self.assertGreater(least, 0)
             for tries in (least, least + 1, 5000):
                 self.assertEqual(decide(claim, tries=tries), right)
 

@@ -46,7 +46,7 @@ class Least(unittest.TestCase):
             self.assertIn(type(found), (int, type(None)))
         for tries in (max(looks), max(looks) + 1, 5000):
             self.assertEqual(least_factor(*question, tries=tries), told)
-        for tries in {1, max(looks) - 1} - {0}:
+        for tries in sorted({-5000, -1, 0, 1, max(looks) - 1}):
             if tries < max(looks):
                 with self.assertRaises(LimitExceeded) as caught:
                     least_factor(*question, tries=tries)

@@ -222,7 +222,7 @@ class Mends(unittest.TestCase):
             self.assertIn(type(found), (tuple, type(None)))
         for tries in (max(looks), max(looks) + 1, 5000):
             self.assertEqual(cheapest_mend(*question, tries=tries), told)
-        for tries in {1, max(looks) - 1} - {0}:
+        for tries in sorted({-5000, -1, 0, 1, max(looks) - 1}):
             if tries < max(looks):
                 with self.assertRaises(LimitExceeded) as caught:
                     cheapest_mend(*question, tries=tries)
